@@ -151,7 +151,7 @@ func (b *builder) lambda(e expr.Lambda) int {
 	for _, name := range e.Names {
 		names = append(names, b.name(name))
 	}
-	b.program.Lambdas = append(b.program.Lambdas, Lambda{Names: names})
+	b.program.Lambdas = append(b.program.Lambdas, Lambda{Name: e.Name, Names: names})
 	b.bodies = append(b.bodies, e.Body)
 	return len(b.bodies) - 1
 }

@@ -85,7 +85,7 @@ func TestBuild(t *testing.T) {
 
 func TestLambdas(t *testing.T) {
 	p := programOf(t, "(lambda (y x) (lambda () x)) (define (f x) y)")
-	lambdas := []Lambda{{[]int{0, 1}, 9}, {[]int{1}, 11}, {nil, 13}}
+	lambdas := []Lambda{{"", []int{0, 1}, 9}, {"f", []int{1}, 11}, {"", nil, 13}}
 	if !slices.Equal(p.Names, []string{"y", "x", "f"}) {
 		t.Errorf("Names = %v", p.Names)
 	}

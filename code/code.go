@@ -42,8 +42,9 @@ type Instr struct {
 
 // Lambda is what procedures of one lambda share.
 type Lambda struct {
-	Names []int // its variables, as places in a Program's Names
-	Entry int   // where its body is
+	Name  string // the variable that is defined as it, if one is
+	Names []int  // its variables, as places in a Program's Names
+	Entry int    // where its body is
 }
 
 // Program is a program as code. It begins at the first instruction. Nothing

@@ -42,6 +42,7 @@ type Set struct {
 
 // Lambda is a lambda.
 type Lambda struct {
+	Name  string // the variable that is defined as it, if one is
 	Names []string
 	Body  Expr
 }
@@ -144,7 +145,7 @@ func define(parts []value.Value) (Expr, bool) {
 	if !ok {
 		return nil, false
 	}
-	return Define{name, a}, true
+	return defineAs(name, a), true
 }
 
 func defineProcedure(head, body []value.Value) (Expr, bool) {
@@ -156,7 +157,16 @@ func defineProcedure(head, body []value.Value) (Expr, bool) {
 	if !isVariable || !isProcedure {
 		return nil, false
 	}
-	return Define{name, a}, true
+	return defineAs(name, a), true
+}
+
+// defineAs lets a lambda know its name, so that a failure can tell where it was.
+func defineAs(name string, a Expr) Expr {
+	if l, ok := a.(Lambda); ok {
+		l.Name = name
+		a = l
+	}
+	return Define{name, a}
 }
 
 func set(parts []value.Value) (Expr, bool) {
@@ -229,7 +239,7 @@ func procedure(names, body []value.Value) (Expr, bool) {
 	if !areVariables || !isBody {
 		return nil, false
 	}
-	return Lambda{all, a}, true
+	return Lambda{Names: all, Body: a}, true
 }
 
 func sequence(parts []value.Value) (Expr, bool) {

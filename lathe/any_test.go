@@ -27,6 +27,33 @@ func checkAny(t *testing.T, text string) {
 	case e != api.OK && e != api.ErrForm && e != api.ErrSize:
 		t.Fatalf("P3: Compile(%q): %d", text, e)
 	}
+	if e == api.OK {
+		checkMachine(t, text, c.Start())
+	}
+}
+
+// checkMachine sees that what a machine answers fits together, wherever it is
+// held (P1, P4 to P6).
+func checkMachine(t *testing.T, text string, m *Machine) {
+	t.Helper()
+	if l := m.Look(); l != (api.Look{}) {
+		t.Fatalf("P4: %q: %+v", text, l)
+	}
+	for n := range 20 {
+		before := m.Look().State
+		made, e := m.Run(n)
+		l, output := m.Look(), m.Output()
+		switch {
+		case e != api.OK || made < 0 || made > n || before != api.Running && made != 0:
+			t.Fatalf("P5: %q: Run(%d) = %d, %d, state %d before", text, n, made, e, before)
+		case l.State == api.Running && made != n, (l.State == api.Failed) != (l.Error != api.OK):
+			t.Fatalf("P5, P6: %q: Run(%d) = %d, then %+v", text, n, made, l)
+		case l.Depth < 0 || l.Depth > api.MaxDepth || l.State == api.Done && l.Depth != 0:
+			t.Fatalf("P6: %q: %+v", text, l)
+		case len(l.Value) > api.MaxTold || l.State != api.Done && l.Value != "" || len(output) > api.MaxOutput:
+			t.Fatalf("P6: %q: %+v, %q", text, l, output)
+		}
+	}
 }
 
 // checkPlace sees that at a place there is what the error is about, and that

@@ -5,6 +5,7 @@ import (
 	"lathe/api"
 	"lathe/code"
 	"lathe/expr"
+	"lathe/machine"
 	"lathe/read"
 )
 
@@ -14,7 +15,9 @@ type Code struct {
 }
 
 // Machine runs a program.
-type Machine struct{}
+type Machine struct {
+	machine *machine.Machine
+}
 
 // Compile reads a program (P3).
 func Compile(text string) (*Code, api.Errno, int) {
@@ -34,13 +37,13 @@ func Compile(text string) (*Code, api.Errno, int) {
 }
 
 // Start gives a machine (P4).
-func (c *Code) Start() *Machine { return nil }
+func (c *Code) Start() *Machine { return &Machine{machine.New(c.program)} }
 
 // Run goes on (P5).
-func (m *Machine) Run(n int) (int, api.Errno) { return 0, api.OK }
+func (m *Machine) Run(n int) (int, api.Errno) { return m.machine.Run(n) }
 
 // Look tells how a machine stands (P6).
-func (m *Machine) Look() api.Look { return api.Look{} }
+func (m *Machine) Look() api.Look { return m.machine.Look() }
 
 // Output tells what has joined the output (P6).
-func (m *Machine) Output() []string { return nil }
+func (m *Machine) Output() []string { return m.machine.Output() }

@@ -2,8 +2,8 @@
 package value
 
 // Value is one of the kinds below. All of them can be held against each other
-// by ==, and it says what eq? asks: pairs are the same by place, all others by
-// what they are.
+// by ==, and it says what eq? asks: pairs and procedures are the same by place,
+// all others by what they are.
 type Value interface {
 	isValue()
 }
@@ -28,12 +28,23 @@ type Pair struct {
 	First, Rest Value
 }
 
-func (Int) isValue()     {}
-func (Bool) isValue()    {}
-func (Symbol) isValue()  {}
-func (Empty) isValue()   {}
-func (Nothing) isValue() {}
-func (*Pair) isValue()   {}
+// Procedure is a procedure; a value is a pointer to one.
+type Procedure struct {
+	Name  string
+	Count int // of the values that it is applied to
+
+	// Do applies it. It is never given more values than Count, nor fewer, and
+	// may keep the slice of them.
+	Do func(values []Value) error
+}
+
+func (Int) isValue()        {}
+func (Bool) isValue()       {}
+func (Symbol) isValue()     {}
+func (Empty) isValue()      {}
+func (Nothing) isValue()    {}
+func (*Pair) isValue()      {}
+func (*Procedure) isValue() {}
 
 // List gives the list of these values.
 func List(items ...Value) Value {

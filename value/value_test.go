@@ -15,7 +15,7 @@ func TestListAndItems(t *testing.T) {
 }
 
 func TestNoList(t *testing.T) {
-	for _, v := range []Value{Int(1), Bool(false), Symbol("a"), Nothing{}, &Pair{Int(1), Int(2)}} {
+	for _, v := range []Value{Int(1), Bool(false), Symbol("a"), Nothing{}, &Pair{Int(1), Int(2)}, &Procedure{}} {
 		if items, ok := Items(v); ok || items != nil {
 			t.Errorf("Items(%v) = %v, %v", v, items, ok)
 		}
@@ -29,6 +29,10 @@ func TestSame(t *testing.T) {
 	}
 	if b = a; a != b {
 		t.Error("a pair is not the same as itself")
+	}
+	var p, q Value = &Procedure{Name: "p"}, &Procedure{Name: "p"}
+	if p == q || p != Value(p) {
+		t.Error("procedures are not the same by place")
 	}
 	if Value(Int(1)) != Value(Int(1)) || Value(Int(1)) == Value(Bool(true)) || Value(Empty{}) == Value(Nothing{}) {
 		t.Error("values are not the same by what they are")
