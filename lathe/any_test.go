@@ -118,7 +118,7 @@ func TestAnyLength(t *testing.T) {
 }
 
 func FuzzCompile(f *testing.F) {
-	for _, text := range right {
+	for _, text := range programs() {
 		f.Add(text)
 	}
 	for _, text := range wrong {

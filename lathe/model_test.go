@@ -17,6 +17,7 @@ type model struct {
 	depths  []int
 	joined  []int // how many had joined the output at each application
 	output  []string
+	again   int // how often what was to be done with a call/cc's value was done once more
 	end     api.Look
 	applied map[*value.Procedure]func(values []value.Value, depth int, then func(value.Value))
 }
@@ -182,6 +183,21 @@ func (m *model) apply(first value.Value, values []value.Value, depth int, then f
 	then(v)
 }
 
+// callCC is what applying call/cc does.
+func (m *model) callCC(values []value.Value, depth int, then func(value.Value)) {
+	done := false
+	do := func(v value.Value) {
+		if done {
+			m.again++
+		}
+		done = true
+		then(v)
+	}
+	k := &value.Procedure{Count: 1}
+	m.applied[k] = func(values []value.Value, _ int, _ func(value.Value)) { do(values[0]) }
+	m.apply(values[0], []value.Value{k}, depth, do)
+}
+
 func (m *model) first(name string, values []value.Value) (value.Value, api.Errno) {
 	last := values[len(values)-1]
 	a, isInt := values[0].(value.Int)
@@ -232,22 +248,22 @@ func modelOf(text string, limit int) (m *model) {
 			outermost.values[value.Symbol(name)] = &value.Procedure{Name: name, Count: i + 1}
 		}
 	}
+	callCC := &value.Procedure{Count: 1}
+	m.applied[callCC], outermost.values["call/cc"] = m.callCC, callCC
 	data, _, _ := read.Data(text)
 	defer func() {
 		if r := recover(); r != nil && r != (modelEnd{}) {
 			panic(r)
 		}
 	}()
-	var form func(value.Value)
-	form = func(v value.Value) {
+	var forms func(data []value.Value, last value.Value)
+	forms = func(data []value.Value, last value.Value) {
 		if len(data) == 0 {
-			m.stop(api.Look{State: api.Done, Value: value.Told(v)})
+			m.stop(api.Look{State: api.Done, Value: value.Told(last)})
 		}
-		next := data[0]
-		data = data[1:]
-		m.evaluate(next, outermost, 0, form)
+		m.evaluate(data[0], outermost, 0, func(v value.Value) { forms(data[1:], v) })
 	}
-	form(nil)
+	forms(data, nil)
 	return m
 }
 
@@ -284,7 +300,7 @@ func likeModel(t *testing.T, text string, step func() int) *model {
 
 func TestLikeModel(t *testing.T) {
 	one, three := func() int { return 1 }, func() int { return 3 }
-	for _, text := range slices.Concat(right, []string{
+	for _, text := range slices.Concat(right, callCCs(), []string{
 		down(5), down(api.MaxDepth), "(define (loop i) (if (< i 1000) (loop (+ i 1)) i)) (loop 0)",
 		"(define (o n) (display n) (o (+ n 1))) (o 0)",
 		"(define (fib n) (if (< n 2) n (+ (fib (- n 1)) (fib (- n 2))))) (fib 8)",
@@ -307,7 +323,7 @@ func (k *maker) any(levels int, names []string) string {
 		return k.plain(names)
 	}
 	one := func() string { return k.any(levels-1, names) }
-	switch k.below(16) {
+	switch k.below(20) {
 	case 0:
 		return "(if " + one() + " " + one() + ")"
 	case 1, 2:
@@ -329,6 +345,14 @@ func (k *maker) any(levels int, names []string) string {
 	case 12:
 		return "(g " + one() + " " + one() + ")"
 	case 13:
+		return "(call/cc (lambda (c) " + k.pick("", "(set! k c) ") + k.any(levels-1, append(slices.Clip(names), "c")) + "))"
+	case 14:
+		return "(" + k.pick(names...) + " " + one() + ")"
+	case 15:
+		return "(k " + one() + ")"
+	case 16:
+		return "(call/cc " + one() + ")"
+	case 17:
 		return "(" + k.pick("car", "cdr", "null?", "pair?", "not", "display", "display") + " " + one() + ")"
 	default:
 		return "(" + k.pick("+", "-", "*", "cons", "cons", "=", "<") + " " + one() + " " + one() + ")"
@@ -340,7 +364,7 @@ func (k *maker) plain(names []string) string {
 	if k.below(2) == 0 {
 		return k.pick(names...)
 	}
-	return k.pick("0", "1", "2", "-1", "#f", "#t", "'a", "'(1 2)", "'()", "car", "f", "z")
+	return k.pick("0", "1", "2", "-1", "#f", "#t", "'a", "'(1 2)", "'()", "car", "f", "k", "call/cc", "z")
 }
 
 func (k *maker) pick(from ...string) string {
@@ -350,22 +374,39 @@ func (k *maker) pick(from ...string) string {
 // program gives a text that Compile takes.
 func (k *maker) program() string {
 	for {
-		text := "(define x 1) (define (f x) " + k.any(5, []string{"x"}) + ") (define (g x y) " + k.any(4, []string{"x", "y"}) + ") " +
-			k.any(2, []string{"x"}) + " " + k.any(5, []string{"x"})
+		text := "(define x 1) (define k car) (define (f x) " + k.any(5, []string{"x"}) + ") (define (g x y) " + k.any(4, []string{"x", "y"}) + ") " +
+			k.forms()
 		if len(text) <= api.MaxText {
 			return text
 		}
 	}
 }
 
+// forms gives the last forms. Some of them are taken up again.
+func (k *maker) forms() string {
+	if k.below(3) > 0 {
+		return k.any(2, []string{"x"}) + " " + k.any(5, []string{"x"})
+	}
+	around := k.pick("@", "(if @ (display 1) 2)", "(begin @ (display x))", "(display (cons x @))", "((lambda (c) (display c)) @)", "(define x @)", "(set! x @)")
+	first := "(call/cc (lambda (c) (set! k c) " + k.any(2, []string{"c", "x"}) + "))"
+	return strings.Replace(around, "@", first, 1) + " " + k.any(3, []string{"x"}) + " (k (display x))"
+}
+
 func TestAnyLikeModel(t *testing.T) {
 	k := &maker{3}
 	var ends [12]int
+	again := 0
 	for range 10000 {
 		m := likeModel(t, k.program(), func() int { return k.below(7) })
 		if m.end.State != api.Running {
 			ends[m.end.Error]++
 		}
+		if m.again > 0 {
+			again++
+		}
+	}
+	if again < 500 {
+		t.Errorf("only %d programs did something once more", again)
 	}
 	for _, e := range []api.Errno{api.OK, api.ErrUnbound, api.ErrApply, api.ErrArgs, api.ErrType, api.ErrDeep, api.ErrFull} {
 		if ends[e] < 10 {

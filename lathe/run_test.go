@@ -127,15 +127,17 @@ func TestSame(t *testing.T) {
 	same := []string{
 		"1 1", "-1 (- 0 1)", "'a 'a", "#t #t", "#f (not 1)", "'() '()", "'() (cdr '(1))", "(if #f 1) (define x 1)",
 		"q q", "(cdr q) (cdr q)", "(e) (e)", "(car (cons q 1)) q", "car car", "f f", "f (car (cons f 1))", "(let ((g car)) g) car",
-		"(car (e)) (car (e))",
+		"(car (e)) (car (e))", "call/cc call/cc", "k k", "(call/cc (lambda (c) (set! k c) c)) k",
 	}
 	other := []string{
 		"1 2", "1 'a", "'a 'b", "#t #f", "#f '()", "'() (if #f 1)", "0 #f", "1 #t", "'(1) '(1)", "q '(1 2)", "q (cdr q)",
 		"(cons 1 2) (cons 1 2)", "car cdr", "(lambda () 1) (lambda () 1)", "(m) (m)", "f car", "q f", "(e) '((a))", "'car car",
+		"k (call/cc (lambda (c) c))", "(n) (n)", "k call/cc", "call/cc car",
 	}
 	check := func(both []string, want string) {
 		for _, text := range both {
-			says(t, "(define q '(1 2)) (define (e) '((a))) (define (f) 1) (define (m) (lambda () 1)) (eq? "+text+")", want)
+			says(t, "(define q '(1 2)) (define (e) '((a))) (define (f) 1) (define (m) (lambda () 1)) "+
+				"(define (n) (call/cc (lambda (c) c))) (define k (n)) (eq? "+text+")", want)
 		}
 	}
 	check(same, "#t")
@@ -237,7 +239,7 @@ func TestFirstProceduresBreak(t *testing.T) {
 		breaks(t, "("+p+" 1)", api.ErrArgs, 0)
 		breaks(t, "("+p+" 1 2 3)", api.ErrArgs, 0)
 	}
-	for _, p := range []string{"car", "cdr", "null?", "pair?", "not", "display"} {
+	for _, p := range []string{"car", "cdr", "null?", "pair?", "not", "display", "call/cc"} {
 		breaks(t, "("+p+")", api.ErrArgs, 0)
 		breaks(t, "("+p+" '(1) '(2))", api.ErrArgs, 0)
 	}

@@ -24,6 +24,7 @@ func (m *Machine) firsts() []*value.Procedure {
 		{Name: "not", Count: 1, Do: m.ofOne(m.not)},
 		{Name: "eq?", Count: 2, Do: m.ofTwo(m.same)},
 		{Name: "display", Count: 1, Do: m.display},
+		{Name: "call/cc", Count: 1, Do: m.callCC},
 	}
 }
 
@@ -108,4 +109,26 @@ func (m *Machine) display(values []value.Value) error {
 	m.output = append(m.output, value.Told(values[0]))
 	m.give(value.Nothing{})
 	return nil
+}
+
+// callCC goes back to the instruction that has applied it, for p to be applied
+// there: that is an application of its own, and the machine may be held ahead
+// of it.
+func (m *Machine) callCC(values []value.Value) error {
+	m.applied, m.values = values[0], []value.Value{m.toBeDone()}
+	m.at--
+	return nil
+}
+
+// toBeDone gives a new procedure, of what is to be done with a value by now: the
+// stack as it is. Nothing changes the entries of a stack, so it can be taken up
+// as often as it is applied.
+func (m *Machine) toBeDone() *value.Procedure {
+	top := m.top
+	takeUp := func(values []value.Value) error {
+		m.top = top
+		m.give(values[0])
+		return nil
+	}
+	return &value.Procedure{Name: "what call/cc gave", Count: 1, Do: takeUp}
 }

@@ -59,6 +59,11 @@ func TestWrongs(t *testing.T) {
 		{"(+ 1 'a)", "the program: +: error 8", api.ErrType},
 		{"(define (f x) (+ 1 (g x))) (define (g x) (cdr x)) (f 1)", "g: cdr: error 8", api.ErrType},
 		{"(define (f) (+ 1 (f))) (f)", "f: error 9", api.ErrDeep},
+		{"(call/cc)", "the program: call/cc: error 7", api.ErrArgs},
+		{"(define (f) (call/cc 1)) (f)", "f: error 6", api.ErrApply},
+		{"(define (f k) (k)) (call/cc f)", "f: what call/cc gave: error 7", api.ErrArgs},
+		{"(define (f) (call/cc car)) (f)", "f: car: error 8", api.ErrType},
+		{"(define (f) (car (call/cc (lambda (k) (k 1))))) (f)", "f: car: error 8", api.ErrType},
 		{"(define (o) (display 1) (o)) (o)", "o: display: error 10", api.ErrFull},
 	} {
 		_, err := machineOf(t, c.text).goOn(1000)
@@ -71,7 +76,8 @@ func TestWrongs(t *testing.T) {
 
 // A machine that does not go on keeps nothing that was for going on.
 func TestNothingIsKept(t *testing.T) {
-	for _, text := range []string{"", "(cons 1 2)", "(car (cons 1 (display 2)))", "(+ 1 (car 2))", "(define (f) (+ 1 (f))) (f)"} {
+	for _, text := range []string{"", "(cons 1 2)", "(car (cons 1 (display 2)))", "(+ 1 (car 2))", "(call/cc call/cc)", "(call/cc 1)",
+		"(define k (call/cc (lambda (c) c))) (if (pair? k) k (k '(1)))", "(define (f) (+ 1 (f))) (f)"} {
 		m := machineOf(t, text)
 		m.Run(1000)
 		if !reflect.DeepEqual(m.registers, registers{}) || m.running() {
