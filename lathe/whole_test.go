@@ -27,7 +27,7 @@ func programs() []string {
 	})
 }
 
-// P7: for all a and b.
+// P7: for all small a and b.
 func TestRunInTwo(t *testing.T) {
 	for _, text := range programs() {
 		for a := range 30 {
